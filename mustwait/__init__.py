@@ -1,0 +1,1 @@
+"""Mustwait: transactions on typed objects that wait only where they must."""
