@@ -35,6 +35,21 @@ def reached_from(moves, starts):
     return tuple(sorted(found))
 
 
+def way_between(moves, one, other):
+    """A shortest sequence of events that leads from a state to another one, or None."""
+    ways = {one: ()}
+    states = [one]
+    at = 0
+    while at < len(states) and other not in ways:
+        state = states[at]
+        for event, goal in moves[state].items():
+            if goal not in ways:
+                ways[goal] = ways[state] + (event,)
+                states.append(goal)
+        at += 1
+    return ways.get(other)
+
+
 def first_beyond(mine, one, theirs, other):
     """The first sequence that is legal at a state and not at another one, or None.
 
