@@ -156,8 +156,11 @@ def status(system, log, wish):
 # Stories: looked for with one state for each object, event by event
 
 
-def story_nodes_alone(system, log, wish, answer):
-    """All (members, states) to which stories lead, with one state for each object, and whether each goes on."""
+def story_nodes_alone(system, log, wish, answer, held=()):
+    """All (members, states) to which stories lead, with one state for each object, and whether each goes on.
+
+    Those that are held have just their rows.
+    """
     number = None if wish is None else wish[0]
     source = log if wish is None else with_answer(log, wish, answer)
     entries = entries_of(source)
@@ -175,7 +178,7 @@ def story_nodes_alone(system, log, wish, answer):
         for one, (_, over, earlier, row) in entries.items():
             goal = led_all(system, states, row)
             if one not in members and set(earlier) <= members and goal is not None:
-                goals.append((members | {one}, goal, not over and one != number))
+                goals.append((members | {one}, goal, not over and one != number and one not in held))
         steps[node] = goals
         for goal in goals:
             if goal not in found:
@@ -184,9 +187,9 @@ def story_nodes_alone(system, log, wish, answer):
     return steps
 
 
-def has_story(system, log, wish):
+def has_story(system, log, wish, held=()):
     for answer in possible_answers(system, wish):
-        for members, _, _ in story_nodes_alone(system, log, wish, answer):
+        for members, _, _ in story_nodes_alone(system, log, wish, answer, held):
             if set(committed(log)) | {wish[0]} <= members:
                 return True
     return False

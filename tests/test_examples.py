@@ -18,6 +18,50 @@ EXAMPLES = r'''
 
 >>> [LETTER.states[1], LINE.operations, len(LINE), LINE.led(0, ("puta", "ok"), ("putb", "ok")), LINE.led(0, ("putb", "ok"), ("puta", "ok"))]
 [(('read', 'b', 1), ('seta', 'ok', 0), ('setb', 'ok', 1)), ('puta', 'putb', 'take'), 7, 4, 5]
+
+>>> from mustwait.histories import log_of
+>>> LOG = log_of(SHOP, DAY)
+>>> LOG
+(((0, 0),), ((0, False, (), ((0, 'setb', 'ok'),)), (1, False, (), ((0, 'read', 'a'), (1, 'put1', 'ok')))))
+
+>>> from mustwait.orders import orders, unsound_at
+>>> [list(orders(SHOP, LOG, (0, 1))), unsound_at(SHOP, DAY), unsound_at(SHOP, DAY + (("did", 0, 1, "take1", "no"),))]
+[[((0, 0), (1, 0))], None, (5, (0, 1))]
+
+>>> from mustwait.wishes import good_sets, releases, status
+>>> WISH = (0, 1, "take1")
+>>> [good_sets(SHOP, LOG, WISH, "no"), good_sets(SHOP, LOG, WISH, "ok"), releases(SHOP, LOG, WISH), status(SHOP, LOG, WISH)]
+[((),), ((1,),), (('no', (), (1,)), ('ok', (1,), ())), 'waits']
+>>> PAIR = (switch(), switch())
+>>> CROSS = (("begin",), ("begin",), ("did", 0, 0, "look", "off"), ("did", 1, 1, "look", "off"), ("did", 0, 1, "turn", "ok"))
+>>> [status(PAIR, log_of(PAIR, CROSS), (1, 0, "turn")), status(PAIR, log_of(PAIR, CROSS + (("commit", 0),)), (1, 0, "turn"))]
+['waits', 'never']
+
+>>> from mustwait.stories import folded, settled
+>>> PUTS = (("begin",), ("begin",), ("did", 0, 0, "puta", "ok"), ("did", 1, 0, "putb", "ok"), ("commit", 0))
+>>> [settled((LINE,), log_of((LINE,), PUTS)), folded((LINE,), log_of((LINE,), PUTS + (("commit", 1),)))]
+[(), (((4,), (5,)), ())]
+
+>>> from mustwait.certificates import decide, decision_holds
+>>> FOUND = decide(SHOP, LOG, WISH)
+>>> [FOUND[0], [block[:2] for block in FOUND[1]], decision_holds(SHOP, LOG, WISH, FOUND), decision_holds(SHOP, LOG, WISH, ("given", "no", ()))]
+['waits', [('no', (1,)), ('ok', ())], True, False]
+
+>>> from mustwait.stores import Store
+>>> store = Store(LINE)
+>>> [store.begin(), store.begin(), store.ask(0, 0, "puta"), store.ask(1, 0, "putb"), store.commit(0), store.commit(1), store.log]
+[0, 1, 'ok', 'ok', None, None, (((4,), (5,)), ())]
+>>> [store.begin(), store.ask(2, 0, "take"), store.ask(2, 0, "take"), store.commit(2), store.begin(), store.ask(3, 0, "take")]
+[2, 'a', 'b', None, 3, None]
+>>> shop = Store(LETTER, PURSE)
+>>> [shop.begin(), shop.begin(), shop.ask(0, 0, "setb"), shop.ask(1, 0, "read"), shop.ask(1, 1, "put1"), shop.ask(0, 1, "take1"), shop.waiting]
+[0, 1, 'ok', 'a', 'ok', None, (0,)]
+>>> [shop.commit(1), shop.news, shop.log[1]]
+[None, ((0, 'ok'),), ((0, False, (), ((0, 'setb', 'ok'), (1, 'take1', 'ok'))),)]
+
+>>> from mustwait.joint import joint
+>>> [joint(LINE, (4, 5)), joint(LINE, (4,))[0]]
+[('split', (((4, 5), 'take'),)), 'joint']
 '''
 
 
@@ -27,4 +71,4 @@ class Examples(unittest.TestCase):
         told = []
         result = doctest.DocTestRunner(verbose=False).run(examples, out=told.append)
         self.assertEqual(result.failed, 0, "".join(told))
-        self.assertEqual(result.attempted, 8)
+        self.assertEqual(result.attempted, 34)

@@ -4,8 +4,15 @@ import importlib
 import inspect
 import unittest
 
-from mustwait.builders import account, switch
+from mustwait.builders import account, queue, switch
+from mustwait.certificates import decide, decision_holds, lot_certificate, lot_holds
+from mustwait.histories import history_text, is_history, is_log, log_of, read_history
+from mustwait.joint import joint, joint_holds
 from mustwait.kinds import Kind
+from mustwait.orders import fitting, is_fine, is_sound, orders, outcomes, unsound_at
+from mustwait.stores import Store
+from mustwait.stories import folded, settled, story, story_holds
+from mustwait.wishes import can_give, good_sets, possible_answers, releases, status
 
 FUNCTIONS = {
     "mustwait.kinds": {"is_word": "thing"},
@@ -14,6 +21,28 @@ FUNCTIONS = {
         "stack": "places *words", "pool": "places *words", "switch": "", "tickets": "most", "permits": "many",
         "beside": "one other",
     },
+    "mustwait.histories": {
+        "is_history": "system thing", "is_log": "system thing", "log_of": "system history", "history_text": "history",
+        "read_history": "system text",
+    },
+    "mustwait.orders": {
+        "orders": "system log members", "fitting": "system log members", "outcomes": "log", "is_fine": "system log",
+        "is_sound": "system history", "unsound_at": "system history",
+    },
+    "mustwait.wishes": {
+        "possible_answers": "system wish", "can_give": "system log wish answer most=5000",
+        "good_sets": "system log wish answer most=5000", "releases": "system log wish most=5000",
+        "status": "system log wish most=5000",
+    },
+    "mustwait.stories": {
+        "story": "system log wish most=5000", "story_holds": "system log wish thing", "settled": "system log most=5000",
+        "folded": "system log most=5000",
+    },
+    "mustwait.certificates": {
+        "decide": "system log wish most=5000", "decision_holds": "system log wish thing",
+        "lot_certificate": "system log most=5000", "lot_holds": "system log thing",
+    },
+    "mustwait.joint": {"joint": "kind states most=5000", "joint_holds": "kind states thing"},
 }
 CLASSES = {
     "mustwait.errors": (
@@ -21,25 +50,44 @@ CLASSES = {
         "InvalidText", "InvalidCommand",
     ),
     "mustwait.kinds": ("Kind",),
+    "mustwait.stores": ("Store",),
 }
 ERRORS = {
     "NoKind": "", "NoObject": "place", "NoOperation": "operation", "NotOpen": "number", "IsWaiting": "number",
     "Never": "number", "Full": "holders", "TooMany": "most", "InvalidText": "", "InvalidCommand": "",
 }
 METHODS = {
-    "__init__": "self *states", "__eq__": "self other", "__len__": "self", "answers": "self state operation",
-    "led": "self state *events", "reached": "self *states", "allows": "self one other", "alike": "self one other",
-    "difference": "self other",
+    Kind: {
+        "__init__": "self *states", "__eq__": "self other", "__len__": "self", "answers": "self state operation",
+        "led": "self state *events", "reached": "self *states", "allows": "self one other", "alike": "self one other",
+        "difference": "self other",
+    },
+    Store: {
+        "__init__": "self *kinds most=5000", "__len__": "self", "__iter__": "self", "__contains__": "self number",
+        "begin": "self", "ask": "self number place operation", "drop": "self number", "commit": "self number",
+        "abort": "self number", "knot": "self", "remedies": "self", "wish": "self number", "why": "self number",
+        "within": "self action",
+    },
 }
-CLASS_METHODS = {"of": "cls states", "read": "cls text"}
-PROPERTIES = ("events", "operations", "least", "text")
+CLASS_METHODS = {
+    Kind: {"of": "cls states", "read": "cls text"},
+    Store: {"of": "cls system most=5000", "from_log": "cls system log most=5000"},
+}
+PROPERTIES = {Kind: ("events", "operations", "least", "text"), Store: ("log", "running", "waiting", "news")}
+
+
+def told(parameter):
+    if parameter.kind is inspect.Parameter.VAR_POSITIONAL:
+        return "*" + parameter.name
+    if parameter.kind is inspect.Parameter.KEYWORD_ONLY:
+        return f"{parameter.name}={parameter.default}"
+    assert parameter.kind is inspect.Parameter.POSITIONAL_OR_KEYWORD
+    assert parameter.default is inspect.Parameter.empty
+    return parameter.name
 
 
 def parameters(function):
-    stars = {inspect.Parameter.VAR_POSITIONAL: "*", inspect.Parameter.POSITIONAL_OR_KEYWORD: ""}
-    found = inspect.signature(function).parameters.values()
-    assert all(parameter.default is inspect.Parameter.empty for parameter in found)
-    return " ".join(stars[parameter.kind] + parameter.name for parameter in found)
+    return " ".join(told(parameter) for parameter in inspect.signature(function).parameters.values())
 
 
 class Names(unittest.TestCase):
@@ -68,16 +116,24 @@ class Names(unittest.TestCase):
                 error()
 
     def test_methods_stand_in_the_class(self):
-        for name, wanted in METHODS.items():
-            self.assertEqual(parameters(vars(Kind)[name]), wanted)
-        for name, wanted in CLASS_METHODS.items():
-            self.assertIsInstance(vars(Kind)[name], classmethod)
-            self.assertEqual(parameters(vars(Kind)[name].__func__), wanted)
-        for name in PROPERTIES:
-            self.assertIsInstance(vars(Kind)[name], property)
+        for place, methods in METHODS.items():
+            for name, wanted in methods.items():
+                self.assertEqual(parameters(vars(place)[name]), wanted)
+        for place, methods in CLASS_METHODS.items():
+            for name, wanted in methods.items():
+                self.assertIsInstance(vars(place)[name], classmethod)
+                self.assertEqual(parameters(vars(place)[name].__func__), wanted)
+        for place, names in PROPERTIES.items():
+            for name in names:
+                self.assertIsInstance(vars(place)[name], property)
 
-    def test_states_is_set_on_each_object(self):
+    def test_generators(self):
+        for function in (orders, outcomes):
+            self.assertTrue(inspect.isgeneratorfunction(function))
+
+    def test_attributes_are_set_on_each_object(self):
         self.assertIn("states", vars(Kind(())))
+        self.assertLessEqual({"system", "most"}, set(vars(Store(switch()))))
 
 
 class Values(unittest.TestCase):
@@ -102,6 +158,36 @@ class Values(unittest.TestCase):
         self.assertIsInstance(kind.allows(0, 1), bool)
         self.assertIsInstance(kind.alike(0, 1), bool)
         self.assertIsInstance(kind == kind, bool)
+
+    def test_results_of_histories_and_wishes(self):
+        system, wish = (queue(2, "a", "b"),), (1, 0, "take")
+        history = (("begin",), ("begin",), ("did", 0, 0, "puta", "ok"))
+        log = log_of(system, history)
+        self.check((
+            log, history_text(history), read_history(system, history_text(history)), tuple(orders(system, log, (0, 1))),
+            fitting(system, log, (0, 1)), tuple(outcomes(log)), unsound_at(system, history), possible_answers(system, wish),
+            good_sets(system, log, wish, "a"), releases(system, log, wish), status(system, log, wish),
+            story(system, log, wish), settled(system, log), folded(system, log), decide(system, log, wish),
+            lot_certificate(system, log), joint(system[0], (4, 5)), joint(system[0], (4,)),
+        ))
+        found = story(system, log, wish)
+        for told_so in (
+            is_history(system, history), is_history(system, None), is_log(system, log), is_log(system, None),
+            is_fine(system, log), is_sound(system, history), can_give(system, log, wish, "a"),
+            story_holds(system, log, wish, found), story_holds(system, log, wish, None),
+            decision_holds(system, log, wish, decide(system, log, wish)), decision_holds(system, log, wish, None),
+            lot_holds(system, log, lot_certificate(system, log)), lot_holds(system, log, None),
+            joint_holds(system[0], (4, 5), joint(system[0], (4, 5))), joint_holds(system[0], (4, 5), None),
+        ):
+            self.assertIs(type(told_so), bool)
+
+    def test_results_of_stores(self):
+        store = Store(queue(2, "a", "b"))
+        results = [store.begin(), store.begin(), store.ask(0, 0, "puta"), store.ask(1, 0, "take"), store.why(1), store.wish(1)]
+        results += [store.knot(), store.remedies(), store.log, store.running, store.waiting, store.news, store.system, len(store)]
+        results += [store.commit(0), store.news, store.drop(1), store.abort(1), store.log, tuple(store), 1 in store]
+        self.check(tuple(results))
+        self.assertEqual([results[14], results[16], results[17]], [None, None, None])
 
     def test_by_name(self):
         kind = account(2, 1)

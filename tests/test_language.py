@@ -205,6 +205,47 @@ class Names(unittest.TestCase):
                 self.assertIn(id(node), inside, name)
 
 
+class Attributes(unittest.TestCase):
+    def test_no_attribute_has_the_name_of_a_method(self):
+        methods = {part.name for _, node in nodes(ast.ClassDef) for part in node.body if isinstance(part, ast.FunctionDef)}
+        for name, node in nodes(ast.Attribute):
+            if isinstance(node.ctx, ast.Store):
+                self.assertNotIn(node.attr, methods | METHODS, name)
+                self.assertIsInstance(node.value, ast.Name, name)
+
+    def test_attributes_that_are_read_are_assigned_or_methods(self):
+        known = {part.name for _, node in nodes(ast.ClassDef) for part in node.body if isinstance(part, ast.FunctionDef)}
+        known |= {node.attr for _, node in nodes(ast.Attribute) if isinstance(node.ctx, ast.Store)}
+        for name, node in nodes(ast.Attribute):
+            self.assertIn(node.attr, known | METHODS, name)
+
+
+class Generators(unittest.TestCase):
+    NAMES = {
+        node.name for _, node in nodes(ast.FunctionDef)
+        if any(isinstance(part, (ast.Yield, ast.YieldFrom)) for part in ast.walk(node))
+    }
+
+    def test_nothing_else_has_their_names(self):
+        functions = [node.name for _, node in nodes(ast.FunctionDef)]
+        for name in self.NAMES:
+            self.assertEqual(functions.count(name), 1)
+            self.assertNotIn(name, METHODS)
+            self.assertNotIn(name, [word for _, word in bound_names()])
+
+    def test_they_are_iterated_at_once(self):
+        iterated = {id(node.iter) for _, node in nodes((ast.For, ast.comprehension))}
+        iterated |= {id(node.value) for _, node in nodes(ast.YieldFrom)}
+        for _, node in nodes(ast.Call):
+            if isinstance(node.func, ast.Name) and node.func.id in ("list", "tuple", "sorted", "zip", "enumerate"):
+                iterated.update(id(part) for part in node.args)
+        for name, node in nodes(ast.Call):
+            if isinstance(node.func, ast.Name) and node.func.id in self.NAMES:
+                self.assertIn(id(node), iterated, name)
+                for part in node.args:
+                    self.assertIsInstance(part, (ast.Name, ast.Attribute), name)
+
+
 class Sets(unittest.TestCase):
     def test_sets_are_not_kept_beyond_what_the_rule_allows(self):
         fine = set()
