@@ -195,8 +195,8 @@ def has_story(system, log, wish, held=()):
     return False
 
 
-def settled(system, log):
-    """The greatest lot, by the sets of members through which stories without a wish come."""
+def lots(system, log):
+    """All lots, by the sets of members through which stories without a wish come."""
     steps = story_nodes_alone(system, log, None, None)
     done = frozenset(committed(log))
     useful = {node for node in steps if done <= node[0]}
@@ -205,11 +205,14 @@ def settled(system, log):
         if more == useful:
             break
         useful = more
-    lots = [
+    return [
         chosen for chosen in subsets(sorted(done))
         if all(set(chosen) <= node[0] or node[0] <= set(chosen) for node in useful)
     ]
-    return max(lots, key=len)
+
+
+def settled(system, log):
+    return max(lots(system, log), key=len)
 
 
 def alike(kind, one, other):

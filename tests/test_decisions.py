@@ -172,6 +172,8 @@ class Given(Decisions):
         self.check(place, ("given", "a", (((), (1,), (4,)),)), True)
         self.check(place, ("given", "b", (((), (2,), (4,)),)), True)
         self.check(place, ("given", "b", (((), (1,), (4,)),)), False)
+        # state 4 has an a, too, but is no start
+        self.check(place, ("given", "a", (((), (4,), (4,)),)), False)
         self.check(place, ("given", "c", (((), (1,), (4,)),)), False)
         self.check(place, ("given", ["a"], (((), (1,), (4,)),)), False)
 

@@ -1,6 +1,7 @@
-"""The examples of the document's interface, word for word."""
+"""The examples of the document's interface, word for word, and those of README.md."""
 
 import doctest
+import pathlib
 import unittest
 
 EXAMPLES = r'''
@@ -65,10 +66,19 @@ EXAMPLES = r'''
 '''
 
 
+README = pathlib.Path(__file__).resolve().parent.parent / "README.md"
+
+
 class Examples(unittest.TestCase):
-    def test_examples(self):
-        examples = doctest.DocTestParser().get_doctest(EXAMPLES, {}, "examples", None, 0)
+    def run_examples(self, text):
+        examples = doctest.DocTestParser().get_doctest(text, {}, "examples", None, 0)
         told = []
         result = doctest.DocTestRunner(verbose=False).run(examples, out=told.append)
         self.assertEqual(result.failed, 0, "".join(told))
-        self.assertEqual(result.attempted, 34)
+        return result.attempted
+
+    def test_examples(self):
+        self.assertEqual(self.run_examples(EXAMPLES), 34)
+
+    def test_readme(self):
+        self.assertGreater(self.run_examples(README.read_text(encoding="utf-8").replace("```", "")), 20)

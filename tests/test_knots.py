@@ -3,7 +3,7 @@
 import unittest
 
 import plain
-from mustwait.builders import account, beside, cell, permits, queue, switch
+from mustwait.builders import account, beside, cell, permits, queue, switch, tickets
 from mustwait.errors import TooMany
 from mustwait.kinds import Kind
 from mustwait.stores import Store
@@ -146,6 +146,43 @@ class Knots(unittest.TestCase):
                 self.assertEqual(caught.exception.most, most)
             self.store.abort(2)
             self.assertEqual(self.store.knot(), (0, 1))
+
+    def left_waiting(self, most, ending):
+        """A store in which 6 goes on waiting for a ticket that 5 had, since there were too many nodes to look at it.
+
+        As long as 0 is open, 1 to 4 are not settled; once they are, there are few nodes.
+        """
+        store = Store(cell(*"abcde"), tickets(1), most=most)
+        for _ in range(5):
+            store.begin()
+        for number in range(1, 5):
+            self.assertEqual(store.ask(number, 0, "set" + "abcde"[number]), "ok")
+        for number in range(1, 5):
+            store.commit(number)
+        self.assertEqual([store.begin(), store.begin(), store.ask(5, 1, "next"), store.ask(6, 1, "next")], [5, 6, "1", None])
+        for number in range(7, 10):
+            self.assertEqual(store.begin(), number)
+        getattr(store, ending)(5)
+        self.assertEqual((store.news, store.waiting, len(store)), ((), (6,), 10 if ending == "commit" else 9))
+        with self.assertRaises(TooMany):
+            store.knot()
+        store.abort(0)
+        self.assertEqual((store.news, store.waiting, len(store)), ((), (6,), 5 if ending == "commit" else 4))
+        return store
+
+    def test_one_that_is_never_answered_and_still_waits(self):
+        store = self.left_waiting(100, "commit")
+        self.assertEqual(store.why(6)[0], "never")
+        self.assertEqual((store.knot(), store.remedies()), ((), ()))
+        store.abort(9)
+        self.assertEqual((store.news, store.waiting), (((6, None),), ()))
+
+    def test_one_that_can_be_given_and_still_waits(self):
+        store = self.left_waiting(90, "abort")
+        self.assertEqual(store.why(6)[0], "given")
+        self.assertEqual((store.knot(), store.remedies()), ((), ()))
+        store.abort(9)
+        self.assertEqual((store.news, store.waiting), (((6, "1"),), ()))
 
     def test_many(self):
         five = ONE

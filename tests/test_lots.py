@@ -159,30 +159,15 @@ class Lots(unittest.TestCase):
             self.assertEqual(found[0], plain.settled(system, log))
             self.assertEqual(found[0], settled(system, log, most=MANY))
             self.check((system, log), found, True)
-            done_ones = plain.committed(log)
-            for lot in plain.subsets(done_ones):
-                wanted = any(lot == one for one in self.lots(system, log))
+            right = plain.lots(system, log)
+            for lot in plain.subsets(plain.committed(log)):
+                wanted = lot in right
                 lots.append(self.check((system, log), (lot, nodes_for(system, log, lot)), wanted))
             for _ in range(10):
                 self.check((system, log), changed(source, changed(source, found)))
                 self.check((system, log), changed(source, found))
         self.assertGreater(lots.count(True), 50)
         self.assertGreater(lots.count(False), 50)
-
-    def lots(self, system, log):
-        """All lots, by the sets of members through which stories come."""
-        steps = plain.story_nodes_alone(system, log, None, None)
-        whole = frozenset(plain.committed(log))
-        useful = {node for node in steps if whole <= node[0]}
-        while True:
-            more = useful | {node for node in steps if any(goal in useful for goal in steps[node])}
-            if more == useful:
-                break
-            useful = more
-        return [
-            lot for lot in plain.subsets(plain.committed(log))
-            if all(set(lot) <= node[0] or node[0] <= set(lot) for node in useful)
-        ]
 
     def test_by_name(self):
         found = lot_certificate(most=50, log=LOG, system=(LETTER,))
