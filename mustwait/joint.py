@@ -7,8 +7,8 @@ from mustwait.kinds import MOST
 
 def joint(kind, states, *, most=MOST):
     """Any certificate for or against a set of states being joint."""
-    table = _all_common(kind, states, most)
-    split = _split_sets(table)
+    table = all_common(kind, states, most)
+    split = split_sets(table)
     if states in split:
         return ("split", _steps_to(table, split, states))
     return ("joint", _choices_from(table, split, states))
@@ -36,7 +36,7 @@ class Common:
         return all([key in rows[state] for state in states])
 
 
-def _all_common(kind, states, most):
+def all_common(kind, states, most):
     """For each set that comes by events that all states of the set before have, what its states answer as one."""
     common = Common(kind)
     table = {states: None}
@@ -60,7 +60,7 @@ def _goals(found):
     return [goal for goals in found.values() for goal in goals.values()]
 
 
-def _split_sets(table):
+def split_sets(table):
     """For each set that is not joint the operation that shows it, each behind the sets that show it with it."""
     left = {}
     users = {states: [] for states in table}

@@ -128,3 +128,28 @@ def least_states(states):
             row.append((operation, answer, numbers[mark]))
         rows.append(tuple(row))
     return tuple(rows)
+
+
+def allowed_pairs(moves):
+    """For each state a list that tells of each other one whether each sequence legal there is legal here, too."""
+    many = len(moves)
+    allowed = [[True] * many for _ in range(many)]
+    users = {}
+    queue = []
+    for one in range(many):
+        for other in range(many):
+            goals = [(moves[one].get(event), goal) for event, goal in moves[other].items()]
+            if None in [goal for goal, _ in goals]:
+                allowed[one][other] = False
+                queue.append((one, other))
+            for pair in goals:
+                users.setdefault(pair, []).append((one, other))
+    at = 0
+    # Each pair is looked at once: what leads to a pair that is not allowed is not allowed either.
+    while at < len(queue):
+        for one, other in users.get(queue[at], []):
+            if allowed[one][other]:
+                allowed[one][other] = False
+                queue.append((one, other))
+        at += 1
+    return allowed

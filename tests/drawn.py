@@ -1,6 +1,7 @@
 """Drawn systems, logs and histories."""
 
 import plain
+import plain_alone
 from mustwait.builders import account, cell, counter, permits, pool, queue, stack, switch, tickets
 from mustwait.kinds import Kind
 from values import random_states
@@ -117,3 +118,25 @@ def history(random, system, things, most=5):
         elif running:
             found.append(("did", random.choice(running)) + event(random, system))
     return tuple(found)
+
+
+def some_things(random, kind, many, most=4, share_sound=0.9):
+    """Things of an object that decides alone; most answers leave them sound alone."""
+    found = ()
+    gone = set()
+    numbers = [random.choice([0, 1, 2, 3, 10 ** 20, 7, 8, 9, 55, 6]) for _ in range(12)]
+    for _ in range(many):
+        left = [number for number in numbers if number not in gone]
+        if not left:
+            break
+        way = random.random()
+        number = random.choice(left)
+        if way < 0.2:
+            found += ((random.choice(["commit", "commit", "abort"]), number),)
+            gone.add(number)
+        else:
+            longer = found + (("did", number) + random.choice(kind.events),)
+            unsettled = len(plain_alone.kept(longer))
+            if unsettled <= most and (random.random() > share_sound or plain_alone.is_sound_now(kind, longer)):
+                found = longer
+    return found

@@ -60,9 +60,28 @@ EXAMPLES = r'''
 >>> [shop.commit(1), shop.news, shop.log[1]]
 [None, ((0, 'ok'),), ((0, False, (), ((0, 'setb', 'ok'), (1, 'take1', 'ok'))),)]
 
+>>> from mustwait.alone import Alone, reaches
 >>> from mustwait.joint import joint
->>> [joint(LINE, (4, 5)), joint(LINE, (4,))[0]]
-[('split', (((4, 5), 'take'),)), 'joint']
+>>> BOTH = (("did", 0, "puta", "ok"), ("did", 1, "putb", "ok"))
+>>> [reaches(LINE, BOTH, (0, 1)), joint(LINE, (4, 5)), joint(LINE, (4,))[0]]
+[(4, 5), ('split', (((4, 5), 'take'),)), 'joint']
+>>> line, purse = Alone(LINE), Alone(PURSE)
+>>> [line.ask(0, "puta"), line.ask(1, "putb"), line.commit(0), line.ask(1, "putb")]
+['ok', None, None, 'ok']
+>>> [purse.ask(0, "put1"), purse.ask(1, "put1"), purse.commit(0), purse.commit(1), purse.ask(2, "take1"), purse.ask(3, "take1")]
+['ok', 'ok', None, None, 'ok', 'ok']
+
+>>> from mustwait.runs import failing_run, run_order, sort_of
+>>> from mustwait.tables import aside, in_place, safe_sets
+>>> FULL, PUT, NO, TAKE = SMALL.events
+>>> in_place(SMALL) == ((FULL, PUT), (PUT, NO), (PUT, TAKE), (NO, TAKE), (TAKE, FULL), (TAKE, PUT))
+True
+>>> aside(SMALL) == ((FULL, TAKE), (PUT, PUT), (PUT, NO), (NO, PUT), (TAKE, FULL), (TAKE, TAKE))
+True
+>>> [sort_of(SMALL, "in place", FULL, PUT), sort_of(SMALL, "in place", PUT, NO), sort_of(SMALL, "aside", PUT, PUT), safe_sets(SMALL, PUT) == ((FULL, TAKE),)]
+['abort', 'ring', 'commit', True]
+>>> [len(failing_run(SMALL, "aside", PUT, PUT)), run_order((SMALL,), failing_run(SMALL, "in place", FULL, PUT))]
+[4, None]
 '''
 
 
@@ -78,7 +97,7 @@ class Examples(unittest.TestCase):
         return result.attempted
 
     def test_examples(self):
-        self.assertEqual(self.run_examples(EXAMPLES), 34)
+        self.assertEqual(self.run_examples(EXAMPLES), 46)
 
     def test_readme(self):
         self.assertGreater(self.run_examples(README.read_text(encoding="utf-8").replace("```", "")), 20)

@@ -4,14 +4,17 @@ import importlib
 import inspect
 import unittest
 
+from mustwait.alone import Alone, cube_answers, is_sound_alone, is_things, reaches
 from mustwait.builders import account, queue, switch
 from mustwait.certificates import decide, decision_holds, lot_certificate, lot_holds
 from mustwait.histories import history_text, is_history, is_log, log_of, read_history
 from mustwait.joint import joint, joint_holds
 from mustwait.kinds import Kind
 from mustwait.orders import fitting, is_fine, is_sound, orders, outcomes, unsound_at
+from mustwait.runs import failing_run, is_run, run_order, sort_of
 from mustwait.stores import Store
 from mustwait.stories import folded, settled, story, story_holds
+from mustwait.tables import aside, in_place, modes, safe_sets, stamp_table
 from mustwait.wishes import can_give, good_sets, possible_answers, releases, status
 
 FUNCTIONS = {
@@ -43,6 +46,17 @@ FUNCTIONS = {
         "lot_certificate": "system log most=5000", "lot_holds": "system log thing",
     },
     "mustwait.joint": {"joint": "kind states most=5000", "joint_holds": "kind states thing"},
+    "mustwait.alone": {
+        "is_things": "kind thing", "is_sound_alone": "kind things", "reaches": "kind things outcome",
+        "cube_answers": "kind things number operation most=5000",
+    },
+    "mustwait.tables": {
+        "in_place": "kind", "aside": "kind", "safe_sets": "kind event most=5000", "stamp_table": "kind choices=()",
+        "modes": "table events",
+    },
+    "mustwait.runs": {
+        "is_run": "system thing", "run_order": "system run", "sort_of": "kind way p q", "failing_run": "kind way p q",
+    },
 }
 CLASSES = {
     "mustwait.errors": (
@@ -51,6 +65,7 @@ CLASSES = {
     ),
     "mustwait.kinds": ("Kind",),
     "mustwait.stores": ("Store",),
+    "mustwait.alone": ("Alone",),
 }
 ERRORS = {
     "NoKind": "", "NoObject": "place", "NoOperation": "operation", "NotOpen": "number", "IsWaiting": "number",
@@ -68,12 +83,18 @@ METHODS = {
         "abort": "self number", "knot": "self", "remedies": "self", "wish": "self number", "why": "self number",
         "within": "self action",
     },
+    Alone: {
+        "__init__": "self kind most=5000", "ask": "self number operation", "commit": "self number", "abort": "self number",
+    },
 }
 CLASS_METHODS = {
     Kind: {"of": "cls states", "read": "cls text"},
     Store: {"of": "cls system most=5000", "from_log": "cls system log most=5000"},
 }
-PROPERTIES = {Kind: ("events", "operations", "least", "text"), Store: ("log", "running", "waiting", "news")}
+PROPERTIES = {
+    Kind: ("events", "operations", "least", "text"), Store: ("log", "running", "waiting", "news"),
+    Alone: ("things", "kept"),
+}
 
 
 def told(parameter):
@@ -82,7 +103,8 @@ def told(parameter):
     if parameter.kind is inspect.Parameter.KEYWORD_ONLY:
         return f"{parameter.name}={parameter.default}"
     assert parameter.kind is inspect.Parameter.POSITIONAL_OR_KEYWORD
-    assert parameter.default is inspect.Parameter.empty
+    if parameter.default is not inspect.Parameter.empty:
+        return f"{parameter.name}={parameter.default}"
     return parameter.name
 
 
@@ -134,6 +156,7 @@ class Names(unittest.TestCase):
     def test_attributes_are_set_on_each_object(self):
         self.assertIn("states", vars(Kind(())))
         self.assertLessEqual({"system", "most"}, set(vars(Store(switch()))))
+        self.assertLessEqual({"kind", "most"}, set(vars(Alone(switch()))))
 
 
 class Values(unittest.TestCase):
@@ -188,6 +211,29 @@ class Values(unittest.TestCase):
         results += [store.commit(0), store.news, store.drop(1), store.abort(1), store.log, tuple(store), 1 in store]
         self.check(tuple(results))
         self.assertEqual([results[14], results[16], results[17]], [None, None, None])
+
+    def test_results_of_objects_that_decide_alone(self):
+        kind, things = queue(2, "a", "b"), (("did", 0, "puta", "ok"), ("commit", 0))
+        one = Alone(kind)
+        results = [one.ask(0, "puta"), one.ask(1, "putb"), one.commit(0), one.abort(1), one.things, one.kept, one.kind]
+        results += [one.most, reaches(kind, things, ()), cube_answers(kind, things, 1, "take")]
+        self.check(tuple(results))
+        self.assertEqual(results[:4], ["ok", None, None, None])
+        for told_so in (
+            is_things(kind, things), is_things(kind, None), is_sound_alone(kind, things), is_sound_alone(kind, things[:1] * 3),
+        ):
+            self.assertIs(type(told_so), bool)
+
+    def test_results_of_tables_and_runs(self):
+        kind = account(1, 1)
+        for way, table in (("in place", in_place(kind)), ("aside", aside(kind))):
+            for p, q in table:
+                run = failing_run(kind, way, p, q)
+                self.check((table, run, sort_of(kind, way, p, q), modes(table, kind.events)))
+                self.assertIsNone(run_order((kind, kind), run))
+        self.check((safe_sets(kind, kind.events[0]), stamp_table(kind), run_order((kind,), ())))
+        self.assertIs(type(is_run((kind,), ())), bool)
+        self.assertIs(type(is_run((kind,), None)), bool)
 
     def test_by_name(self):
         kind = account(2, 1)

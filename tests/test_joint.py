@@ -10,50 +10,10 @@ from mustwait.builders import account, cell, permits, pool, queue, stack, switch
 from mustwait.errors import TooMany
 from mustwait.joint import joint, joint_holds
 from mustwait.kinds import MOST, Kind
+from plain_joint import all_sets, answered, coming, joint_sets, led
 from values import ANY_VALUES, changed, copied, random_states
 
 LINE, PURSE = queue(2, "a", "b"), account(2, 1)
-
-
-def answered(kind, states):
-    """The operations to which all states have an answer."""
-    rows = [{operation for operation, _ in plain.moves(kind, state)} for state in states]
-    return sorted(set.intersection(*rows))
-
-
-def led(kind, states, event):
-    """The set to which an event leads that all states have, or None."""
-    if any(event not in plain.moves(kind, state) for state in states):
-        return None
-    return tuple(sorted({plain.moves(kind, state)[event] for state in states}))
-
-
-def all_sets(kind):
-    many = range(len(kind.states))
-    return [chosen for size in range(1, len(kind.states) + 1) for chosen in itertools.combinations(many, size)]
-
-
-def joint_sets(kind):
-    """All joint sets: the greatest joint family."""
-    family = set(all_sets(kind))
-    while True:
-        left = {
-            states for states in family if all(
-                any(led(kind, states, event) in family for event in kind.events if event[0] == operation)
-                for operation in answered(kind, states)
-            )
-        }
-        if left == family:
-            return family
-        family = left
-
-
-def coming(kind, states):
-    """The sets to which sequences lead that all states have."""
-    def step(found):
-        return [goal for goal in (led(kind, found, event) for event in kind.events) if goal is not None]
-
-    return plain.closure([states], step)
 
 
 def is_set(kind, thing):
