@@ -40,10 +40,15 @@ def greatest_knot(system, log, wishes, most):
     knot = sorted(grips)
     # A wish that a set does not hold is held by no smaller one: so what is left out is in no knot.
     while True:
-        held = [number for number in knot if grips[number].holds(knot)]
+        held = _held(grips, knot)
         if held == knot:
             return tuple(knot)
         knot = held
+
+
+def _held(grips, numbers):
+    """Those of some transactions whose wishes all of them hold."""
+    return [number for number in numbers if grips[number].holds(numbers)]
 
 
 def remedies_of(system, log, wishes, most):

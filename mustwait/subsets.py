@@ -23,15 +23,20 @@ def least_pairs(numbers, collection):
     # Two pairs that differ in one number make a lesser one; those that make none are least.
     level = {(0, mask): True for mask in masks}
     while level:
-        lesser = {}
-        for loose, ins in level:
-            made = _made(level, loose, ins, bits)
-            if not made:
-                found.append(_told(bits, loose, ins))
-            for pair in made:
-                lesser[pair] = True
-        level = lesser
+        level = _lesser(level, bits, found)
     return found
+
+
+def _lesser(level, bits, found):
+    """The lesser pairs that those of a level make; those that make none are told in found."""
+    lesser = {}
+    for loose, ins in level:
+        made = _made(level, loose, ins, bits)
+        if not made:
+            found.append(_told(bits, loose, ins))
+        for pair in made:
+            lesser[pair] = True
+    return lesser
 
 
 def _made(level, loose, ins, bits):

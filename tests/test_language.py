@@ -220,6 +220,63 @@ class Attributes(unittest.TestCase):
             self.assertIn(node.attr, known | METHODS, name)
 
 
+    def test_no_method_has_the_name_of_a_property(self):
+        found = {True: set(), False: set()}
+        for _, node in nodes(ast.ClassDef):
+            for part in node.body:
+                if isinstance(part, ast.FunctionDef):
+                    found["property" in [decorator.id for decorator in part.decorator_list]].add(part.name)
+        self.assertEqual(found[True] & found[False], set())
+
+
+class Walks(unittest.TestCase):
+    """What a loop walks is not changed in it, nor in a loop around it behind the walk (L23)."""
+
+    MODIFY = set("append clear extend insert pop remove reverse setdefault update add discard sort".split())
+
+    def walked(self, node):
+        """The names, attributes and items that are walked."""
+        if isinstance(node, (ast.Name, ast.Attribute, ast.Subscript)):
+            return [node]
+        if isinstance(node, ast.IfExp):
+            return self.walked(node.body) + self.walked(node.orelse)
+        if isinstance(node, ast.BoolOp):
+            return [part for value in node.values for part in self.walked(value)]
+        if isinstance(node, ast.Call) and isinstance(node.func, ast.Name) and node.func.id in ("enumerate", "zip", "reversed"):
+            return [part for value in node.args for part in self.walked(value)]
+        if isinstance(node, ast.Call) and isinstance(node.func, ast.Attribute) and node.func.attr in ("items", "keys", "values"):
+            return self.walked(node.func.value)
+        return []
+
+    def root(self, node):
+        while isinstance(node, (ast.Attribute, ast.Subscript)):
+            node = node.value
+        return node.id if isinstance(node, ast.Name) else None
+
+    def changed(self, node):
+        if isinstance(node, ast.Call) and isinstance(node.func, ast.Attribute) and node.func.attr in self.MODIFY:
+            return [node.func.value]
+        if isinstance(node, (ast.Assign, ast.Delete)):
+            found = node.targets
+        else:
+            found = [node.target] if isinstance(node, (ast.AugAssign, ast.For)) else []
+        return [part for one in found for part in (one.elts if isinstance(one, (ast.Tuple, ast.List)) else [one])]
+
+    def walks(self, loop):
+        found = [node.iter for node in ast.walk(loop) if isinstance(node, (ast.For, ast.comprehension))]
+        return [(way.lineno, part) for way in found for part in self.walked(way)]
+
+    def test_what_is_walked_stays_as_it_is(self):
+        for name, loop in nodes((ast.For, ast.While)):
+            for line, part in self.walks(loop):
+                for node in ast.walk(loop):
+                    for goal in self.changed(node):
+                        text = ast.unparse(goal)
+                        same = text.startswith(ast.unparse(part)) or isinstance(goal, ast.Name)
+                        if self.root(goal) == self.root(part) and same:
+                            self.assertLess(node.lineno, line, (name, text))
+
+
 class Generators(unittest.TestCase):
     NAMES = {
         node.name for _, node in nodes(ast.FunctionDef)
