@@ -25,7 +25,7 @@ def decide(system, log, wish, *, most=MOST):
             return ("given", one.answer, _orders_with(one))
     if any([one.many_good > 0 for one in tried]):
         return ("waits", tuple([_block(one) for one in tried]), releases_of(tried))
-    tales = [one.tales((), most) for one in tried]
+    tales = [one.tales(most) for one in tried]
     for one in tales:
         if one.end() is not None:
             blocks = tuple([(each.answer, each.nodes.listed(each.rows.whole)) for each in tried])

@@ -48,8 +48,8 @@ class OrderNodes:
         return mask in self.table and len(self.table[mask]) > 0
 
     def reached(self, base):
-        """The number of masks with all entries of another one that some node has."""
-        return len([mask for mask in self.table if mask & base == base and len(self.table[mask]) > 0])
+        """The masks with all entries of another one that some node has."""
+        return [mask for mask, goals in self.table.items() if mask & base == base and goals]
 
     def ends(self, mask):
         """The states of the nodes of a mask that is reached, ascending."""

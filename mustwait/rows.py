@@ -20,6 +20,7 @@ class Rows:
         self.parts = [_parts(entry[3]) for entry in entries]
         self.known_moves = [{} for _ in entries]
         self.known_members = {}
+        self.known_free = {}
 
     def mask(self, numbers):
         """The mask of those entries that have these numbers."""
@@ -34,7 +35,11 @@ class Rows:
 
     def free(self, mask):
         """The indices of the entries that may stand next behind those of a mask."""
-        return [index for index, need in enumerate(self.needs) if not mask >> index & 1 and need & mask == need]
+        if mask not in self.known_free:
+            self.known_free[mask] = [
+                index for index, need in enumerate(self.needs) if not mask >> index & 1 and need & mask == need
+            ]
+        return self.known_free[mask]
 
     def moved(self, index, states):
         """The states, one for each object, to which the row of an entry leads, or None."""

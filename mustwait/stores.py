@@ -6,7 +6,7 @@ from mustwait.kinds import MOST, is_number
 from mustwait.knots import greatest_knot, remedies_of
 from mustwait.logs import committed_of, first_log, opened_of, with_abort, with_begin, with_commit, with_event
 from mustwait.turns import folded_if_few, turn, turn_of_abort, without_wish
-from mustwait.wishes import verdict
+from mustwait.views import Known, View
 
 MOST_ENTRIES = 10
 
@@ -17,7 +17,7 @@ class Store:
     def __init__(self, *kinds, most=MOST):
         self.system = kinds
         self.most = most
-        self.kept_log = first_log(kinds)
+        self.view = View(kinds, first_log(kinds), most, Known(kinds))
         self.kept_wishes = ()
         self.kept_news = ()
         self.active = ()
@@ -40,10 +40,10 @@ class Store:
         self.begun = max([entry[0] + 1 for entry in log[1]], default=0)
         for number in opened_of(log):
             log = with_abort(log, number)
-        self.kept_log = folded_if_few(self.system, log, self.most)
+        self.view = folded_if_few(self.view.after(log))
 
     def __len__(self):
-        return len(self.kept_log[1])
+        return len(self.view.logged[1])
 
     def __iter__(self):
         return iter(self.active)
@@ -54,7 +54,7 @@ class Store:
     @property
     def log(self):
         """The log."""
-        return self.kept_log
+        return self.view.logged
 
     @property
     def running(self):
@@ -73,31 +73,31 @@ class Store:
 
     def begin(self):
         """Begins a transaction; returns its number."""
-        if len(self.kept_log[1]) >= MOST_ENTRIES:
+        if len(self) >= MOST_ENTRIES:
             raise Full(self._holders())
         number = self.begun
         self.begun += 1
-        self.kept_log = with_begin(self.kept_log, number)
-        self.active = opened_of(self.kept_log)
+        self.view = self.view.after(with_begin(self.view.logged, number))
+        self.active = opened_of(self.view.logged)
         return number
 
     def _holders(self):
-        committed = committed_of(self.kept_log)
-        return tuple([entry[0] for entry in self.kept_log[1] if not entry[1] and entry[2] != committed])
+        committed = committed_of(self.view.logged)
+        return tuple([entry[0] for entry in self.view.logged[1] if not entry[1] and entry[2] != committed])
 
     def ask(self, number, place, operation):
         """The answer to an operation of an object, or None if the wish waits."""
         self._check_wish(number, place, operation)
         wish = (number, place, operation)
-        status, answer = verdict(self.system, self.kept_log, wish, self.most)
+        status, answer = self.view.verdict(wish)
         if status == "never":
             raise Never(number)
         if answer is None:
             self.kept_wishes = self.kept_wishes + (wish,)
             self.kept_news = ()
         else:
-            longer = with_event(self.kept_log, number, (place, operation, answer))
-            self._keep(turn(self.system, longer, self.kept_wishes, self.most))
+            longer = with_event(self.view.logged, number, (place, operation, answer))
+            self._keep(turn(self.view.after(longer), self.kept_wishes))
         return answer
 
     def _check_wish(self, number, place, operation):
@@ -114,8 +114,8 @@ class Store:
             raise NotOpen(number)
 
     def _keep(self, told):
-        self.kept_log, self.kept_wishes, self.kept_news = told
-        self.active = opened_of(self.kept_log)
+        self.view, self.kept_wishes, self.kept_news = told
+        self.active = opened_of(self.view.logged)
 
     def drop(self, number):
         """Drops the wish of a transaction, if there is one."""
@@ -127,12 +127,12 @@ class Store:
         """Commits a transaction."""
         self._check_open(number)
         others = without_wish(self.kept_wishes, number)
-        self._keep(turn(self.system, with_commit(self.kept_log, number), others, self.most))
+        self._keep(turn(self.view.after(with_commit(self.view.logged, number)), others))
 
     def abort(self, number):
         """Aborts a transaction."""
         self._check_open(number)
-        self._keep(turn_of_abort(self.system, self.kept_log, self.kept_wishes, number, self.most))
+        self._keep(turn_of_abort(self.view, self.kept_wishes, number))
 
     def wish(self, number):
         """The wish of a transaction that waits, None otherwise."""
@@ -146,15 +146,15 @@ class Store:
         wish = self.wish(number)
         if wish is None:
             return None
-        return decide(self.system, self.kept_log, wish, most=self.most)
+        return decide(self.system, self.view.logged, wish, most=self.most)
 
     def knot(self):
         """The greatest knot, ascending."""
-        return greatest_knot(self.system, self.kept_log, self.kept_wishes, self.most)
+        return greatest_knot(self.view, self.kept_wishes)
 
     def remedies(self):
         """The ascending tuple of all remedies of the greatest knot."""
-        return remedies_of(self.system, self.kept_log, self.kept_wishes, self.most)
+        return remedies_of(self.view, self.kept_wishes)
 
     def within(self, action):
         """Runs an action with the number of a transaction, which commits, or aborts if a StoreError leaves it."""

@@ -13,7 +13,7 @@ from mustwait.wishes import trials
 def story(system, log, wish, *, most=MOST):
     """Any story for a wish, or None."""
     # All are made ahead of the choice, for each one may raise TooMany.
-    tales = [one.tales((), most) for one in trials(system, log, wish)]
+    tales = [one.tales(most) for one in trials(system, log, wish)]
     for one in tales:
         if one.end() is not None:
             return one.story()
@@ -128,12 +128,12 @@ def folded(system, log, *, most=MOST):
     rows = Rows(system, [entry for entry in log[1] if entry[0] in lot])
     # Order nodes of the lot are story nodes, too: so neither they nor the starts are more than most.
     ends = OrderNodes(rows, log[0], most).ends(rows.whole)
-    firsts = [_firsts_alike(kind) for kind in system]
+    firsts = [firsts_alike(kind) for kind in system]
     starts = sorted({tuple([first[state] for first, state in zip(firsts, states)]) for states in ends})
     return (tuple(starts), without_lot(log, lot))
 
 
-def _firsts_alike(kind):
+def firsts_alike(kind):
     """For each state of a kind the first state that is alike."""
     marks = classes(kind.states)
     firsts = {}

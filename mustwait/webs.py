@@ -36,6 +36,9 @@ class StoryWeb:
         self.plain = plain
         self.known_images = {}
         self.known_spreads = {}
+        # Many nodes have the same sets: so whole steps are kept, too.
+        self.known_moves = [{} for _ in rows.numbers]
+        self.known_spread = {}
 
     def firsts(self, starts):
         """The nodes without members."""
@@ -55,6 +58,12 @@ class StoryWeb:
 
     def moved(self, index, sets):
         """The sets to which a step by an entry leads, or None."""
+        known = self.known_moves[index]
+        if sets not in known:
+            known[sets] = self._moved(index, sets)
+        return known[sets]
+
+    def _moved(self, index, sets):
         goals = tuple([self._image(index, place, bits) for place, bits in enumerate(sets)])
         if 0 in goals:
             return None
@@ -66,7 +75,10 @@ class StoryWeb:
 
     def spread(self, sets):
         """The sets to which any sequences lead."""
-        return tuple([self._spread_at(place, bits) for place, bits in enumerate(sets)])
+        known = self.known_spread
+        if sets not in known:
+            known[sets] = tuple([self._spread_at(place, bits) for place, bits in enumerate(sets)])
+        return known[sets]
 
     def _image(self, index, place, bits):
         key = (index, place, bits)
@@ -81,6 +93,21 @@ class StoryWeb:
         if key not in self.known_spreads:
             self.known_spreads[key] = bits_of(reached_from(self.rows.moves[place], states_of(bits)))
         return self.known_spreads[key]
+
+
+def leads_to(web, starts, goal):
+    """Whether steps lead to a node with all entries of a mask."""
+    stack = web.firsts(starts)
+    known = {node: True for node in stack}
+    while stack:
+        here = stack.pop()
+        if here[0] & goal == goal:
+            return True
+        for _, node in web.steps(here):
+            if node not in known:
+                known[node] = True
+                stack.append(node)
+    return False
 
 
 class LotWeb:

@@ -6,7 +6,7 @@ from mustwait.nodes import OrderNodes
 from mustwait.rows import Rows
 from mustwait.subsets import least_pairs, subsets
 from mustwait.tales import Tales
-from mustwait.webs import StoryWeb
+from mustwait.webs import StoryWeb, leads_to
 
 
 class Trial:
@@ -24,13 +24,17 @@ class Trial:
         """The mask of all committed entries, the wishing one and some others."""
         return self.goal | self.rows.mask(chosen)
 
-    def tales(self, held, most):
-        """All story nodes with this answer, where other entries that are held get no further events."""
-        return Tales(self.story_web(held), self.starts, self.goal, most)
+    def tales(self, most):
+        """All story nodes with this answer."""
+        return Tales(self.story_web(()), self.starts, self.goal, most)
 
     def story_web(self, held):
-        """The steps between these story nodes."""
+        """The steps between story nodes with this answer, where other entries that are held get no further events."""
         return StoryWeb(self.rows, self.mask_of(held))
+
+    def has_story(self, held):
+        """Whether there is a story with this answer in which those that are held get no further events."""
+        return leads_to(self.story_web(held), self.starts, self.goal)
 
 
 class Tried(Trial):
@@ -39,7 +43,7 @@ class Tried(Trial):
     def __init__(self, system, log, wish, answer, most):
         Trial.__init__(self, system, log, wish, answer)
         self.nodes = OrderNodes(self.rows, self.starts, most)
-        self.many_good = self.nodes.reached(self.goal)
+        self.many_good = len(self.nodes.reached(self.goal))
 
     def can_be_given(self):
         """Whether all sets of other open entries are good."""
@@ -106,14 +110,8 @@ def status_of(tried, most):
     if any([one.many_good > 0 for one in tried]):
         return "waits"
     # All are made ahead of the choice, for each one may raise TooMany.
-    tales = [one.tales((), most) for one in tried]
+    tales = [one.tales(most) for one in tried]
     return "later" if any([one.end() is not None for one in tales]) else "never"
-
-
-def verdict(system, log, wish, most):
-    """The status of a wish, and the first answer that can be given, or None."""
-    tried = tries(system, log, wish, most)
-    return (status_of(tried, most), first_given(tried))
 
 
 def first_given(tried):
