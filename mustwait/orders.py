@@ -57,13 +57,13 @@ def unsound_at(system, history):
         if thing[0] == "begin":
             begun += 1
         if thing[0] == "did":
-            outcome = _first_unfit(system, log, thing[1], memory)
+            outcome = first_unfit(system, log, thing[1], memory)
             if outcome is not None:
                 return (index, outcome)
     return None
 
 
-def _first_unfit(system, log, number, memory):
+def first_unfit(system, log, number, memory):
     """The first outcome without an order that fits, behind an answer to a transaction."""
     rows = Rows(system, log[1])
     for outcome in outcomes(log):

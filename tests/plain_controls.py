@@ -110,3 +110,38 @@ def woven(system, programs, control, walk):
 def weavings(system, programs, control):
     found = walks(programs)
     return (len(found), sum(woven(system, programs, control, walk) is not None for walk in found))
+
+
+def histories(kind, length, most_begun=3):
+    """All histories of one object, the shortest ones first."""
+    level = [()]
+    for _ in range(length + 1):
+        yield from level
+        level = [history + (thing,) for history in level for thing in nexts(kind, history, most_begun)]
+
+
+def nexts(kind, history, most_begun):
+    begun = sum(thing == ("begin",) for thing in history)
+    gone = ended(history, "commit") + ended(history, "abort")
+    running = [number for number in range(begun) if number not in gone]
+    found = [("begin",)] if begun < most_begun else []
+    for number in running:
+        found += [("did", number, 0) + event for event in kind.events] + [("commit", number), ("abort", number)]
+    return found
+
+
+def separating(kind, one, other, length):
+    """The length of the shortest histories that tell two controls apart, or None."""
+    level = [()]
+    for size in range(1, length + 1):
+        longer = []
+        for history in level:
+            for thing in nexts(kind, history, 3):
+                if thing[0] == "did":
+                    if not lets(one, (kind,), history, thing):
+                        continue
+                    if not lets(other, (kind,), history, thing):
+                        return size
+                longer.append(history + (thing,))
+        level = longer
+    return None

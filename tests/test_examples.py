@@ -82,9 +82,23 @@ True
 ['abort', 'ring', 'commit', True]
 >>> [len(failing_run(SMALL, "aside", PUT, PUT)), run_order((SMALL,), failing_run(SMALL, "in place", FULL, PUT))]
 [4, None]
+
+>>> from mustwait.controls import CONTROLS, held_back
+>>> from mustwait.counts import weavings
+>>> WRITES = (("begin",), ("begin",), ("did", 0, 0, "seta", "ok"), ("did", 1, 0, "setb", "ok"))
+>>> [held_back(control, (LETTER,), WRITES) for control in CONTROLS]
+[3, 3, None, 3, None]
+>>> [weavings((LINE,), (((0, "puta"),), ((0, "putb"),)), control) for control in ("cube", "orders")]
+[(6, 2), (6, 6)]
+
+>>> from mustwait.console import Console
+>>> console = Console()
+>>> [console.say(line) for line in ("object cell a b", "object account 2 1", "begin", "begin", "ask 0 0 setb", "ask 1 0 read", "ask 1 1 put1", "ask 0 1 take1", "why 0", "commit 1")]
+['0', '1', '0', '1', 'ok', 'a', 'ok', 'waits', 'no if 1 aborts; ok if 1 commits', 'ok; 0 ok']
 '''
 
 
+DOCUMENT = pathlib.Path(__file__).resolve().parent.parent.parent / "shared" / "DOC.md"
 README = pathlib.Path(__file__).resolve().parent.parent / "README.md"
 
 
@@ -97,7 +111,14 @@ class Examples(unittest.TestCase):
         return result.attempted
 
     def test_examples(self):
-        self.assertEqual(self.run_examples(EXAMPLES), 46)
+        self.assertEqual(self.run_examples(EXAMPLES), 54)
+
+    @unittest.skipUnless(DOCUMENT.exists(), "the document is not here")
+    def test_word_for_word(self):
+        blocks = DOCUMENT.read_text(encoding="utf-8").split("```")[1::2]
+        wanted = "".join(block for block in blocks if ">>>" in block)
+        self.assertEqual(EXAMPLES.replace("\n\n", "\n").strip(), wanted.replace("\n\n", "\n").strip())
+        self.assertEqual(self.run_examples(wanted), 54)
 
     def test_readme(self):
         self.assertGreater(self.run_examples(README.read_text(encoding="utf-8").replace("```", "")), 20)

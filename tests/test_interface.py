@@ -7,6 +7,10 @@ import unittest
 from mustwait.alone import Alone, cube_answers, is_sound_alone, is_things, reaches
 from mustwait.builders import account, queue, switch
 from mustwait.certificates import decide, decision_holds, lot_certificate, lot_holds
+from mustwait.console import Console
+from mustwait.controls import CONTROLS, held_back, separating
+from mustwait.counts import weavings
+from mustwait.findings import finding_holds
 from mustwait.histories import history_text, is_history, is_log, log_of, read_history
 from mustwait.joint import joint, joint_holds
 from mustwait.kinds import Kind
@@ -54,6 +58,11 @@ FUNCTIONS = {
         "in_place": "kind", "aside": "kind", "safe_sets": "kind event most=5000", "stamp_table": "kind choices=()",
         "modes": "table events",
     },
+    "mustwait.controls": {
+        "held_back": "control system history most=5000", "separating": "kind one other length",
+    },
+    "mustwait.counts": {"weavings": "system programs control most=5000"},
+    "mustwait.findings": {"finding_holds": "thing"},
     "mustwait.runs": {
         "is_run": "system thing", "run_order": "system run", "sort_of": "kind way p q", "failing_run": "kind way p q",
     },
@@ -66,6 +75,7 @@ CLASSES = {
     "mustwait.kinds": ("Kind",),
     "mustwait.stores": ("Store",),
     "mustwait.alone": ("Alone",),
+    "mustwait.console": ("Console",),
 }
 ERRORS = {
     "NoKind": "", "NoObject": "place", "NoOperation": "operation", "NotOpen": "number", "IsWaiting": "number",
@@ -83,6 +93,7 @@ METHODS = {
         "abort": "self number", "knot": "self", "remedies": "self", "wish": "self number", "why": "self number",
         "within": "self action",
     },
+    Console: {"__init__": "self", "say": "self command"},
     Alone: {
         "__init__": "self kind most=5000", "ask": "self number operation", "commit": "self number", "abort": "self number",
     },
@@ -234,6 +245,17 @@ class Values(unittest.TestCase):
         self.check((safe_sets(kind, kind.events[0]), stamp_table(kind), run_order((kind,), ())))
         self.assertIs(type(is_run((kind,), ())), bool)
         self.assertIs(type(is_run((kind,), None)), bool)
+
+    def test_results_of_controls_and_findings(self):
+        kind = queue(2, "a", "b")
+        puts = (("begin",), ("begin",), ("did", 0, 0, "puta", "ok"), ("did", 1, 0, "putb", "ok"))
+        for one in CONTROLS:
+            self.check((held_back(one, (kind,), puts), weavings((kind,), (((0, "puta"),),) * 2, one)))
+            for other in CONTROLS:
+                self.check(separating(kind, one, other, 4))
+        self.check((CONTROLS, Console().say("object switch")))
+        self.assertIs(type(finding_holds(("same", kind.states, kind.states))), bool)
+        self.assertIs(type(finding_holds(None)), bool)
 
     def test_by_name(self):
         kind = account(2, 1)

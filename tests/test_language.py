@@ -170,7 +170,8 @@ class Code(unittest.TestCase):
 
     def test_handlers(self):
         for name, node in nodes(ast.ExceptHandler):
-            self.assertIn(node.type.id, classes_of("errors") + ["KeyError"], name)
+            for part in node.type.elts if isinstance(node.type, ast.Tuple) else [node.type]:
+                self.assertIn(part.id, classes_of("errors") + ["KeyError"], name)
 
 
 class Names(unittest.TestCase):
