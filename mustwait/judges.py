@@ -18,11 +18,11 @@ from mustwait.tables import aside, in_place, stamp_table
 def judge_of(control, system, most):
     """The judge of a control."""
     if control == "in place":
-        return PlaceJudge(system, [in_place(kind) for kind in system])
+        return TableJudge(system, [in_place(kind) for kind in system], True)
     if control == "aside":
-        return AsideJudge(system, [aside(kind) for kind in system])
+        return TableJudge(system, [aside(kind) for kind in system], False)
     if control == "stamps":
-        return AsideJudge(system, [stamp_table(kind) for kind in system])
+        return TableJudge(system, [stamp_table(kind) for kind in system], False)
     if control == "cube":
         return CubeJudge(system, most)
     return OrdersJudge(system)
@@ -54,11 +54,12 @@ class Past:
 
 
 class TableJudge:
-    """A control by a table; its states are the things that came so far."""
+    """A control by a table, of events done at once or at the commits; its states are the things that came so far."""
 
-    def __init__(self, system, tables):
+    def __init__(self, system, tables, at_once):
         self.moves = [kind.moves for kind in system]
         self.pairs = [{pair: True for pair in table} for table in tables]
+        self.at_once = at_once
 
     def first(self):
         """The state of the empty history."""
@@ -71,8 +72,14 @@ class TableJudge:
     def lets(self, things, thing):
         """Whether the control lets an answer."""
         past = Past(things, thing[2])
-        events = self.beneath(past, thing[1]) + [thing[3:]]
+        events = self._beneath(past, thing[1]) + [thing[3:]]
         return led_by(self.moves[thing[2]], 0, events) is not None and not self._is_barred(past, thing)
+
+    def _beneath(self, past, number):
+        """The events behind which one of a transaction is to be legal."""
+        if self.at_once:
+            return past.stayed(())
+        return past.committed_row() + past.row_at(number)
 
     def _is_barred(self, past, thing):
         pairs = self.pairs[thing[2]]
@@ -83,35 +90,18 @@ class TableJudge:
         """All that later answers depend on."""
         past = Past(things, 0)
         busy = past.busy()
-        return (tuple(self.leads(past, busy)), tuple([(number, self._barred_by(past, number)) for number in busy]))
+        return (tuple(self._leads(past, busy)), tuple([(number, self._barred_by(past, number)) for number in busy]))
 
     def _barred_by(self, past, number):
         row = past.row_at(number)
         return tuple(sorted({p for p, q in self.pairs[0] if q in row}))
 
-
-class PlaceJudge(TableJudge):
-    """Events are done at once, and struck if their transaction aborts."""
-
-    def beneath(self, past, number):
-        """The events behind which one of a transaction is to be legal."""
-        return past.stayed(())
-
-    def leads(self, past, busy):
-        """The states behind what stays, whichever of the open transactions abort."""
-        return [led_by(self.moves[0], 0, past.stayed(struck)) for struck in subsets(busy)]
-
-
-class AsideJudge(TableJudge):
-    """Events are done at the commits."""
-
-    def beneath(self, past, number):
-        """The events behind which one of a transaction is to be legal."""
-        return past.committed_row() + past.row_at(number)
-
-    def leads(self, past, busy):
-        """The state behind the committed ones, and where the open ones lead from each state."""
+    def _leads(self, past, busy):
+        """The states, or the rows of states, by which later answers are legal or not."""
         moves = self.moves[0]
+        if self.at_once:
+            # Any of the open ones may abort, and then its events are struck.
+            return [led_by(moves, 0, past.stayed(struck)) for struck in subsets(busy)]
         return [led_by(moves, 0, past.committed_row())] + [leads_from_all(moves, past.row_at(one)) for one in busy]
 
 
@@ -132,12 +122,13 @@ class CubeJudge:
 
     def after(self, sights, thing):
         """The state behind one more thing, if it is let."""
-        if thing[0] == "begin":
-            return sights
-        told = thing[:2] + thing[3:]
-        seeing = [thing[0] != "did" or place == thing[2] for place in range(len(sights))]
-        pairs = zip(self.cubes, sights, seeing)
-        return tuple([cube.behind(sight, told) if sees else sight for cube, sight, sees in pairs])
+        return tuple([self._behind(place, sight, thing) for place, sight in enumerate(sights)])
+
+    def _behind(self, place, sight, thing):
+        """What one object keeps: commits and aborts come to all objects, answers to one."""
+        if thing[0] == "begin" or (thing[0] == "did" and thing[2] != place):
+            return sight
+        return self.cubes[place].behind(sight, thing[:2] + thing[3:])
 
     def lets(self, sights, thing):
         """Whether the control lets an answer."""

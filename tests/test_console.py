@@ -6,6 +6,8 @@ import unittest
 import plain
 from mustwait.console import Console
 from mustwait.errors import InvalidCommand, StoreError, TooMany
+from mustwait.histories import log_of
+from mustwait.orders import is_fine
 from mustwait.stores import Store
 from plain_console import PlainConsole
 from values import ANY_VALUES
@@ -202,6 +204,7 @@ class Invalid(Talking):
         "commit " + "0" * 500, "commit " + "9" * 3990, "abort 2", "abort 01", "abort  0", "abort 0 0", "drop 2", "drop 00", "drop 0 0",
         "why 0", "why 1", "why 2", "why 00", "why 0 0", "why a", "0", "0 commit", "ask 0 read 0", "ask 0 0 setb setb",
         "ask 0 " + "9" * 400 + " read", "ask " + "9" * 400 + " 0 read", "say begin", "object", "object switch", "object cell a",
+        "why 0 0 read", "begin 0 0 read", "commit 0 0 read", "read 0 0 read", "asks 0 0 read", "0 0 0 read", "ask 0 read", "ask 0 0 0 read",
         "a" * 4000, " " * 4000, "begin;", "begin; begin", "ok", "ask 0 0 read; 1 ok", "ask 0 0 'read'",
     )
     OBJECTS = (
@@ -344,55 +347,89 @@ class BesideAStore(Talking):
         self.assertGreater(raised, 1)
 
 
+class Day:
+    """A console and the history of all that it has been told."""
+
+    def __init__(self, *lines):
+        self.console = console_of(*lines)
+        self.history = ()
+        self.wishes = {}
+
+    def say(self, line):
+        told = self.console.say(line)
+        word, *rest = line.split(" ")
+        answer, *news = told.split("; ")
+        if word == "begin" and told != "full":
+            self.history += (("begin",),)
+        if word == "ask" and answer == "waits":
+            self.wishes[rest[0]] = rest
+        elif word == "ask" and answer != "never":
+            self.did(rest, answer)
+        if word in ("commit", "abort"):
+            self.history += ((word, int(rest[0])),)
+        if word in ("ask", "commit", "abort"):
+            for part in news:
+                number, given = part.split(" ")
+                if given != "never":
+                    self.did(self.wishes[number], given)
+        return told
+
+    def did(self, asked, answer):
+        self.history += (("did", int(asked[0]), int(asked[1]), asked[2], answer),)
+
+    def numbers(self, word):
+        return [int(one) for one in self.say(word).replace("none", "").split()]
+
+
 class Days(unittest.TestCase):
     """A whole day: what [3] promises, behind each step."""
 
-    def day(self, seed):
+    def go(self, seed):
         source = random.Random(seed)
-        console = console_of("object cell a b", "object account 2 1", "object permits 1")
+        day = Day("object cell a b", "object account 2 1", "object permits 1")
         asks = ["0 read", "0 seta", "0 setb", "1 put1", "1 take1", "2 get", "2 back"]
         for _ in range(40):
-            running = [int(word) for word in console.say("running").replace("none", "").split()]
+            running = day.numbers("running")
             if len(running) < 3:
-                console.say("begin")
+                day.say("begin")
                 continue
             number = source.choice(running)
-            waiting = [int(word) for word in console.say("waiting").replace("none", "").split()]
             line = source.choice([f"ask {number} {one}" for one in asks] * 2 + [f"commit {number}"] * 2 + [f"abort {number}"])
-            if line.startswith("ask") and number in waiting:
+            if line.startswith("ask") and number in day.numbers("waiting"):
                 continue
-            answer = console.say(line)
-            self.check(console.store)
-            if answer.startswith("waits"):
-                self.check_held_back(console.store, number)
-            if console.say("knot") != "none":
-                console.say("abort " + console.say("knot").split(" ")[0])
-        self.end(console)
+            day.say(line)
+            self.check(day)
+            knot = day.numbers("knot")
+            if knot:
+                day.say(f"abort {knot[0]}")
+                self.check(day)
+        self.end(day)
 
-    def check(self, store):
-        """Each outcome has an order that fits; the log is the folded one, so all orders begin with what it has forgotten."""
+    def check(self, day):
+        """Each outcome of the whole history has an order; each answer held back would leave some outcome without one."""
+        store = day.console.store
+        log = log_of(store.system, day.history)
+        self.assertTrue(is_fine(store.system, log))
         self.assertTrue(plain.is_fine(store.system, store.log))
         for number in store.waiting:
-            self.check_held_back(store, number)
+            wish = store.wish(number)
+            for answer in plain.possible_answers(store.system, wish):
+                self.assertFalse(is_fine(store.system, plain.with_answer(log, wish, answer)))
 
-    def check_held_back(self, store, number):
-        """Each answer would leave some outcome without an order."""
-        wish = store.wish(number)
-        for answer in plain.possible_answers(store.system, wish):
-            self.assertFalse(plain.is_fine(store.system, plain.with_answer(store.log, wish, answer)))
-
-    def end(self, console):
-        while console.say("running") != "none":
-            for word in console.say("running").split(" "):
-                if word not in console.say("waiting").split(" "):
-                    console.say("commit " + word)
-            if console.say("running") != "none":
-                console.say("abort " + console.say("running").split(" ")[-1])
-        self.assertEqual([console.say(word) for word in ("running", "waiting", "kept", "knot")], ["none"] * 4)
+    def end(self, day):
+        while day.numbers("running"):
+            for number in day.numbers("running"):
+                if number not in day.numbers("waiting"):
+                    day.say(f"commit {number}")
+                    self.check(day)
+            for number in day.numbers("running")[-1:]:
+                day.say(f"abort {number}")
+                self.check(day)
+        self.assertEqual([day.say(word) for word in ("running", "waiting", "kept", "knot")], ["none"] * 4)
 
     def test_days(self):
         for seed in range(6):
-            self.day(seed)
+            self.go(seed)
 
 
 class Attributes(unittest.TestCase):

@@ -176,6 +176,27 @@ class FailingRuns(unittest.TestCase):
         run = self.check(line, "aside", p, p, 5)
         self.assertEqual(sum(thing[0] == "did" for thing in run), 6)
 
+    def test_a_longer_way_to_a_shorter_end(self):
+        # At once the two are told apart by three events more; two steps further on they are by none.
+        def kind(m_ends):
+            rows = [
+                (("p", "x", 1), ("q", "x", 2), ("s", "x", 3)), (("q", "x", 4),), (("p", "x", 5),), (("s", "x", 10),),
+                (("m", "x", 6),), (("m", "x", 7),), (("m", "x", 8),), (("m", "x", 9),), (), (("m", "x", 8),),
+                (("p", "x", 12), ("q", "x", 11)), (("p", "x", 8),), (),
+            ]
+            if m_ends == 2:
+                rows[7] = (("m", "x", 8), ("s", "x", 8))
+            return Kind(*rows)
+
+        p, q = ("p", "x"), ("q", "x")
+        for way in TABLES:
+            run = self.check(kind(3), way, p, q, 4)
+            self.assertEqual(sum(thing[0] == "did" for thing in run), 8)
+            self.assertEqual(len({thing[1] for thing in run}), 3)
+            # With two events more both ways are as short.
+            run = self.check(kind(2), way, p, q, 4)
+            self.assertEqual(sum(thing[0] == "did" for thing in run), 8)
+
     def test_large_kinds(self):
         source = random.Random(3)
         events = [(operation, answer) for operation in "abcdef" for answer in "xy"]

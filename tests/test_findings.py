@@ -238,6 +238,12 @@ class FalseOnes(Findings):
         # One object more that nobody uses is another system, but as right as before.
         self.check(finding[:2] + (finding[2] * 4,) + finding[3:], True)
 
+    def test_a_system_of_no_kinds(self):
+        self.check(("lot", (), (((),), ()), ((), (((), (), False),))), False)
+        self.check(("fails", (), ()), False)
+        for control in CONTROLS:
+            self.check(("held", control, (), (BEGIN,)), False)
+
     def test_kinds_that_are_none(self):
         for name in ("same", "joint", "split"):
             finding = TRUE_ONES[name]

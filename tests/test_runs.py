@@ -75,6 +75,7 @@ class Runs(unittest.TestCase):
         (did(0, 0, ["puta"]), ("commit", 0, 0)), (did(0, 0, "puta", {}), ("commit", 0, 0)),
         (did(0, [0], "puta"), ("commit", 0, [0])),
         # Things that are none.
+        (did(0, 0, "puta"), ("commit", 0, 0, "puta", "ok")), (("do", 0, 0, "puta", "ok"), ("commit", 0, 0)), (("did", 0, 0), ("commit", 0, 0)),
         (did(0, 0, "puta"), ["commit", 0, 0]), [did(0, 0, "puta"), ("commit", 0, 0)], (list(did(0, 0, "puta")), ("commit", 0, 0)),
         (did(0, 0, "puta"), ("commit", 0)), (did(0, 0, "puta"), ("commit", 0, 0, 0)), (did(0, 0, "puta"), ("drop", 0, 0)),
         (("did", 0, 0, "puta"), ("commit", 0, 0)), (did(0, 0, "puta") + ("ok",), ("commit", 0, 0)), ((),), (("begin",),),

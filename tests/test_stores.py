@@ -565,6 +565,8 @@ class FromLogs(Stores):
     def test_starts_that_are_alike(self):
         kind = Kind((("stay", "ok", 1),), (("stay", "ok", 0),))
         self.assertEqual(Store.from_log((kind,), (((0,), (1,)), ())).log, (((0,),), ()))
+        self.assertEqual(Store.from_log((kind,), (((1,),), ())).log, (((0,),), ()))
+        self.assertEqual(Store.from_log((kind, LINE), (((1, 4), (1, 5)), ((3, False, (), ()),))).log, (((0, 4), (0, 5)), ()))
 
     def test_the_log_that_is_passed_stays(self):
         log = (((0,),), ((3, True, (), ((0, "seta", "ok"),)), (8, False, (3,), ())))
