@@ -98,7 +98,6 @@ True
 '''
 
 
-DOCUMENT = pathlib.Path(__file__).resolve().parent.parent.parent / "shared" / "DOC.md"
 README = pathlib.Path(__file__).resolve().parent.parent / "README.md"
 
 
@@ -112,13 +111,6 @@ class Examples(unittest.TestCase):
 
     def test_examples(self):
         self.assertEqual(self.run_examples(EXAMPLES), 54)
-
-    @unittest.skipUnless(DOCUMENT.exists(), "the document is not here")
-    def test_word_for_word(self):
-        blocks = DOCUMENT.read_text(encoding="utf-8").split("```")[1::2]
-        wanted = "".join(block for block in blocks if ">>>" in block)
-        self.assertEqual(EXAMPLES.replace("\n\n", "\n").strip(), wanted.replace("\n\n", "\n").strip())
-        self.assertEqual(self.run_examples(wanted), 54)
 
     def test_readme(self):
         self.assertGreater(self.run_examples(README.read_text(encoding="utf-8").replace("```", "")), 20)
